@@ -11,18 +11,15 @@ import (
 
 	"portcullis/api"
 	"portcullis/parse"
+	"portcullis/sample"
 	"portcullis/scope"
 	"portcullis/tree"
 )
 
-// read: the program of a text, and the places of the marks "@" that stood in it.
+// read: the program of a text, and where its marks "@" stood.
 func read(t *testing.T, s string) (api.Program, []int) {
 	t.Helper()
-	var marks []int
-	for at := strings.Index(s, "@"); at >= 0; at = strings.Index(s, "@") {
-		marks = append(marks, at)
-		s = s[:at] + s[at+1:]
-	}
+	s, marks := sample.Marked(s)
 	p, at, e := parse.Program(s)
 	if e != api.OK {
 		t.Fatalf("%.300q: %d %d", s, at, e)
@@ -30,19 +27,11 @@ func read(t *testing.T, s string) (api.Program, []int) {
 	return p, marks
 }
 
-// told: of a text's marks, parted by "|", what is wrong there, parted by ",".
+// told: of a text's marks what is wrong there.
 func told(t *testing.T, s, want string) {
 	t.Helper()
 	p, marks := read(t, s)
-	var list []api.Diag
-	for i, one := range strings.Split(want, "|") {
-		for _, wrong := range strings.Split(one, ",") {
-			if word, name, ok := strings.Cut(strings.TrimSpace(wrong), " "); ok {
-				code := map[string]api.Errno{"many": 22, "twice": 40, "none": 41, "kind": 42}[word]
-				list = append(list, api.Diag{At: marks[i], Code: code, Name: name})
-			}
-		}
-	}
+	list := sample.Wanted(want, marks)
 	if _, got := scope.Names(p); !slices.Equal(got, list) {
 		t.Errorf("%.300q:\n%v, want\n%v", s, got, list)
 	}
@@ -365,34 +354,14 @@ const wholeText = "lock l ; chan c 4 ; struct s { f [ ] int ; f * q ; } var g * 
 
 // P6.3: what is handed in is as it was, in its spare room too.
 func TestUnchanged(t *testing.T) {
-	spare := func() api.Program {
-		p, _ := read(t, wholeText)
-		p.Decls = append(p.Decls, api.Decl{Kind: 77, Name: "spare"})[:len(p.Decls)]
-		for i, d := range p.Decls {
-			p.Decls[i].Pairs = append(d.Pairs, api.Pair{Name: "spare"})[:len(d.Pairs)]
-			p.Decls[i].Body = append(d.Body, api.Stmt{Kind: 77, Name: "spare"})[:len(d.Body)]
-			for k, s := range p.Decls[i].Body {
-				p.Decls[i].Body[k].Exprs = append(s.Exprs, api.Expr{Kind: 77, Name: "spare"})[:len(s.Exprs)]
-			}
-		}
-		return p
-	}
-	p, want := spare(), spare()
+	p, _ := read(t, wholeText)
+	p = sample.Spare(p)
+	want := sample.Whole(p)
 	if _, diags := scope.Names(p); len(diags) == 0 || scope.Find(p, "t") != 7 || scope.Find(p, "spare") != -1 {
 		t.Error(diags)
 	}
-	whole := func(p api.Program) []api.Decl {
-		list := slices.Clone(p.Decls[:cap(p.Decls)])
-		for i, d := range list {
-			list[i].Pairs, list[i].Body = d.Pairs[:cap(d.Pairs)], slices.Clone(d.Body[:cap(d.Body)])
-			for k, s := range list[i].Body {
-				list[i].Body[k].Exprs = s.Exprs[:cap(s.Exprs)]
-			}
-		}
-		return list
-	}
-	if !reflect.DeepEqual(whole(p), whole(want)) {
-		t.Error("changed", whole(p))
+	if !reflect.DeepEqual(sample.Whole(p), want) {
+		t.Error("changed", p)
 	}
 }
 

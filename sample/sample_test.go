@@ -1,0 +1,86 @@
+package sample_test
+
+import (
+	"reflect"
+	"slices"
+	"strings"
+	"testing"
+
+	"portcullis/api"
+	"portcullis/parse"
+	"portcullis/sample"
+	"portcullis/scope"
+	"portcullis/types"
+)
+
+// All texts are read, their names are right, and without slips all types fit.
+func TestProgram(t *testing.T) {
+	slipped := 0
+	var texts strings.Builder
+	for seed := range uint64(1000) {
+		for _, slips := range []int{0, 40} {
+			s := sample.Program(seed, slips)
+			p, at, e := parse.Program(s)
+			if e != 0 {
+				t.Fatalf("%d %d: %q: %d %d", seed, slips, s, at, e)
+			}
+			if _, diags := scope.Names(p); len(diags) > 0 {
+				t.Fatalf("%d %d: %q: %v", seed, slips, s, diags)
+			}
+			if diags := types.Check(p); len(diags) > 0 && slips == 0 {
+				t.Fatalf("%d: %q: %v", seed, s, diags)
+			} else if len(diags) > 0 {
+				slipped++
+			}
+			if s != sample.Program(seed, slips) {
+				t.Fatal("another text", seed, slips)
+			}
+			texts.WriteString(s)
+		}
+	}
+	if slipped < 500 || slipped > 950 {
+		t.Error("slips", slipped)
+	}
+	all := texts.String()
+	for _, part := range strings.Split("lock lo|unlock lo|chan ch|struct st|input in|sink si|func fu|thread th|int|bool|[ ] int|* st|var v|set v|set in|if (|} else {|while (|send ch|recv ch|out si|call fu|call v|return ;|return (|nil|true|false|new st|make (|len (|release h|. f|( - |( !|+|*|/|%|&||| < | <= | == | != |, | : ", "|") {
+		if !strings.Contains(all, part) {
+			t.Error("nowhere", part)
+		}
+	}
+}
+
+// What stands behind a list's end is seen in the whole program, wherever the list is.
+func TestSpare(t *testing.T) {
+	p, _, _ := parse.Program("func f ( x int ) { if ( x < 1 ) { return ; } else { return ; } }")
+	q := sample.Spare(p)
+	if reflect.DeepEqual(sample.Whole(q), q) || !slices.Equal(types.Check(q), types.Check(p)) {
+		t.Error(q)
+	}
+	s := q.Decls[0].Body[0]
+	for i, write := range []func(){
+		func() { _ = append(q.Decls, api.Decl{}) }, func() { _ = append(q.Decls[0].Pairs, api.Pair{}) }, func() { _ = append(q.Decls[0].Body, api.Stmt{}) },
+		func() { _ = append(s.Body, api.Stmt{}) }, func() { _ = append(s.Else, api.Stmt{}) }, func() { _ = append(s.Exprs, api.Expr{}) }, func() { _ = append(s.Exprs[0].Args[1].Args, api.Expr{}) },
+	} {
+		before := sample.Whole(q)
+		if write(); reflect.DeepEqual(sample.Whole(q), before) {
+			t.Error("not seen", i)
+		}
+	}
+	e := sample.SpareExpr(s.Exprs[0])
+	before := sample.WholeExpr(e)
+	if _ = append(e.Args[0].Args, api.Expr{}); reflect.DeepEqual(sample.WholeExpr(e), before) {
+		t.Error("not seen")
+	}
+}
+
+// The marks' places are those of the text without them.
+func TestMarked(t *testing.T) {
+	text, marks := sample.Marked("@ab@c@@")
+	if text != "abc" || !slices.Equal(marks, []int{0, 2, 3, 3}) {
+		t.Error(text, marks)
+	}
+	want := []api.Diag{{At: 0, Code: api.ErrNone, Name: "x"}, {At: 0, Code: api.ErrKind, Name: "y"}, {At: 3, Code: api.ErrType}}
+	if got := sample.Wanted("none x, kind y||type|", marks); !slices.Equal(got, want) {
+		t.Error(got)
+	}
+}
