@@ -79,8 +79,8 @@ func TestMarked(t *testing.T) {
 	if text != "abc" || !slices.Equal(marks, []int{0, 2, 3, 3}) {
 		t.Error(text, marks)
 	}
-	want := []api.Diag{{At: 0, Code: api.ErrNone, Name: "x"}, {At: 0, Code: api.ErrKind, Name: "y"}, {At: 3, Code: api.ErrType}}
-	if got := sample.Wanted("none x, kind y||type|", marks); !slices.Equal(got, want) {
+	want := []api.Diag{{At: 0, Code: api.ErrNone, Name: "x"}, {At: 0, Code: api.ErrKind, Name: "y"}, {At: 3, Code: api.ErrType}, {At: 3, Code: api.ErrLevel, Name: "z"}, {At: 3, Code: api.ErrLabel, Name: "z"}, {At: 3, Code: api.ErrOrder}}
+	if got := sample.Wanted("none x, kind y||type|level z, label z, order", marks); !slices.Equal(got, want) {
 		t.Error(got)
 	}
 }
