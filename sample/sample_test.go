@@ -73,6 +73,23 @@ func TestSpare(t *testing.T) {
 	}
 }
 
+// A text's tokens are read one after the other, its types and names with types whole.
+func TestReader(t *testing.T) {
+	r := sample.Read("x ( a int , b [ ] int , ) { c * n ; } bool ;")
+	if at, name, is, not := r.At(), r.Next(), r.Is("("), r.Is("("); at != 0 || name != "x" || !is || not || r.At() != 4 {
+		t.Error(at, name, is, not, r)
+	}
+	if got := r.Pairs(")"); !slices.Equal(got, []api.Pair{{Name: "a", Type: "int"}, {Name: "b", Type: "[]int"}}) || !r.Is("{") {
+		t.Error(got, r)
+	}
+	if got := r.Pairs("}"); !slices.Equal(got, []api.Pair{{Name: "c", Type: "*n"}}) {
+		t.Error(got, r)
+	}
+	if typ, end := r.Type(), r.Next(); typ != "bool" || end != ";" || r.K != len(r.Tokens) || r.Text() != "" || r.Is(";") {
+		t.Error(typ, end, r)
+	}
+}
+
 // The marks' places are those of the text without them.
 func TestMarked(t *testing.T) {
 	text, marks := sample.Marked("@ab@c@@")

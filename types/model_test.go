@@ -6,13 +6,12 @@ import (
 	"strings"
 
 	"portcullis/api"
-	"portcullis/lex"
+	"portcullis/sample"
 )
 
 // model is the chapter's words, of a text's tokens instead of its tree; the types of expressions are told while they are read.
 type model struct {
-	tokens  []api.Token
-	k       int
+	sample.Reader
 	structs map[string][]api.Pair
 	globals map[string]string // also the inputs
 	inputs  map[string]bool
@@ -32,14 +31,13 @@ type root struct {
 
 // modelled: what is wrong in a text whose names are right, and its statements' expressions.
 func modelled(s string) ([]api.Diag, []root) {
-	tokens, _, _ := lex.Tokens(s)
-	m := &model{tokens: tokens, structs: map[string][]api.Pair{}, globals: map[string]string{}, inputs: map[string]bool{}, params: map[string][]string{}, results: map[string]string{}}
-	for m.k < len(tokens) {
+	m := &model{Reader: sample.Read(s), structs: map[string][]api.Pair{}, globals: map[string]string{}, inputs: map[string]bool{}, params: map[string][]string{}, results: map[string]string{}}
+	for m.K < len(m.Tokens) {
 		m.declare()
 	}
 	all := map[api.Diag]bool{}
-	m.k, m.diags = 0, all
-	for m.k < len(tokens) {
+	m.K, m.diags = 0, all
+	for m.K < len(m.Tokens) {
 		m.decl()
 	}
 	return sorted(all), m.roots
@@ -62,75 +60,27 @@ func sorted(set map[api.Diag]bool) []api.Diag {
 	return list
 }
 
-func (m *model) text() string {
-	if m.k >= len(m.tokens) {
-		return ""
-	}
-	return m.tokens[m.k].Text
-}
-
-func (m *model) at() int { return m.tokens[m.k].At }
-
-// next: this token, behind which reading goes on.
-func (m *model) next() string {
-	m.k++
-	return m.tokens[m.k-1].Text
-}
-
-// is: does this token stand here? If so, reading goes on behind it.
-func (m *model) is(token string) bool {
-	if m.text() == token {
-		m.k++
-		return true
-	}
-	return false
-}
-
-func (m *model) typ() string {
-	switch word := m.next(); word {
-	case "[":
-		m.k += 2
-		return "[]int"
-	case "*":
-		return "*" + m.next()
-	default:
-		return word
-	}
-}
-
-// pairs reads names with types up to a token; signs between them are left out.
-func (m *model) pairs(end string) []api.Pair {
-	var list []api.Pair
-	for !m.is(end) {
-		if !m.is(",") && !m.is(";") {
-			name := m.next()
-			list = append(list, api.Pair{Name: name, Type: m.typ()})
-		}
-	}
-	return list
-}
-
 // declare reads what a declaration says to others.
 func (m *model) declare() {
-	word, name := m.next(), m.next()
+	word, name := m.Next(), m.Next()
 	switch word {
 	case "struct":
-		m.k++
-		m.structs[name] = m.pairs("}")
+		m.K++
+		m.structs[name] = m.Pairs("}")
 		return
 	case "var":
-		m.globals[name] = m.typ()
+		m.globals[name] = m.Type()
 	case "input":
 		m.globals[name] = "int"
 		m.inputs[name] = true
 	case "func":
-		m.k++
+		m.K++
 		m.params[name] = nil
-		for _, q := range m.pairs(")") {
+		for _, q := range m.Pairs(")") {
 			m.params[name] = append(m.params[name], q.Type)
 		}
-		if m.text() != "{" {
-			m.results[name] = m.typ()
+		if m.Text() != "{" {
+			m.results[name] = m.Type()
 		}
 	}
 	m.over()
@@ -139,7 +89,7 @@ func (m *model) declare() {
 // over goes to the end of a declaration.
 func (m *model) over() {
 	for deep := 0; ; {
-		switch m.next() {
+		switch m.Next() {
 		case "{":
 			deep++
 		case "}":
@@ -155,26 +105,26 @@ func (m *model) over() {
 }
 
 func (m *model) decl() {
-	word, name := m.next(), m.next()
+	word, name := m.Next(), m.Next()
 	if word != "func" && word != "thread" {
 		m.over()
 		return
 	}
 	m.locals, m.result = map[string]string{}, m.results[name]
-	if m.is("(") {
-		for _, q := range m.pairs(")") {
+	if m.Is("(") {
+		for _, q := range m.Pairs(")") {
 			m.locals[q.Name] = q.Type
 		}
-		if m.text() != "{" {
-			m.typ()
+		if m.Text() != "{" {
+			m.Type()
 		}
 	}
 	m.block()
 }
 
 func (m *model) block() {
-	m.next()
-	for !m.is("}") {
+	m.Next()
+	for !m.Is("}") {
 		m.stmt()
 	}
 }
@@ -198,52 +148,52 @@ func into(value, place string) bool {
 }
 
 func (m *model) stmt() {
-	at, code := m.at(), api.Errno(50)
+	at, code := m.At(), api.Errno(50)
 	told, good := true, true // are the expressions not wrong? does all fit?
 	value := func(place string) {
 		typ, right := m.root()
 		told, good = told && right, good && into(typ, place)
 	}
-	switch word := m.next(); word {
+	switch word := m.Next(); word {
 	case "var":
-		name := m.next()
-		place := m.typ()
-		m.next()
+		name := m.Next()
+		place := m.Type()
+		m.Next()
 		value(place)
 		m.locals[name] = place
 	case "set":
-		alone, name := m.tokens[m.k+1].Text == "=", m.text()
+		alone, name := m.Tokens[m.K+1].Text == "=", m.Text()
 		place, right := m.root()
-		m.next()
+		m.Next()
 		value(place)
 		told, good = told && right, good && !(alone && m.inputs[name])
 	case "if", "while":
 		value("bool")
 		m.wrong(at, code, told && !good)
 		m.block()
-		if word == "if" && m.is("else") {
+		if word == "if" && m.Is("else") {
 			m.block()
 		}
 		return
 	case "send", "out":
-		m.next()
+		m.Next()
 		value("int")
 	case "recv":
-		m.next()
-		good = m.locals[m.next()] == "int"
+		m.Next()
+		good = m.locals[m.Next()] == "int"
 	case "lock", "unlock":
-		m.next()
+		m.Next()
 	case "call":
 		told, good = m.call()
 	case "return":
 		code = 51
-		if m.text() != ";" {
+		if m.Text() != ";" {
 			value(m.result)
 		} else {
 			good = m.result == ""
 		}
 	}
-	m.next()
+	m.Next()
 	m.wrong(at, code, told && !good)
 }
 
@@ -254,16 +204,16 @@ func (m *model) wrong(at int, code api.Errno, holds bool) {
 }
 
 func (m *model) call() (told, good bool) {
-	name, told, good := m.next(), true, true
-	if m.is("=") {
+	name, told, good := m.Next(), true, true
+	if m.Is("=") {
 		local := m.locals[name]
-		name = m.next()
+		name = m.Next()
 		good = into(m.results[name], local)
 	}
-	m.next()
+	m.Next()
 	count := 0
-	for !m.is(")") {
-		m.is(",")
+	for !m.Is(")") {
+		m.Is(",")
 		typ, right := m.root()
 		told = told && right
 		if count++; count > len(m.params[name]) || !into(typ, m.params[name][count-1]) {
@@ -276,18 +226,18 @@ func (m *model) call() (told, good bool) {
 // expr reads an expression: its type, or "".
 func (m *model) expr() string {
 	typ := m.first()
-	for m.text() == "." || m.text() == "[" {
-		at := m.at()
-		if m.next() == "." {
-			typ = m.field(at, typ, m.next())
+	for m.Text() == "." || m.Text() == "[" {
+		at := m.At()
+		if m.Next() == "." {
+			typ = m.field(at, typ, m.Next())
 			continue
 		}
 		gives, index := "int", m.expr()
 		all := []string{typ, index}
-		if m.is(":") {
+		if m.Is(":") {
 			gives, all = "[]int", append(all, m.expr())
 		}
-		m.next()
+		m.Next()
 		typ = m.gives(at, gives, all, "[]int int int")
 	}
 	return typ
@@ -326,8 +276,8 @@ func (m *model) gives(at int, typ string, types []string, wanted string) string 
 }
 
 func (m *model) first() string {
-	at, kind := m.at(), m.tokens[m.k].Kind
-	word := m.next()
+	at, kind := m.At(), m.Tokens[m.K].Kind
+	word := m.Next()
 	switch {
 	case kind == api.TNumber:
 		return "int"
@@ -336,14 +286,14 @@ func (m *model) first() string {
 	case word == "nil":
 		return "nil"
 	case word == "new":
-		return "*" + m.next()
+		return "*" + m.Next()
 	case word == "release":
-		m.next()
+		m.Next()
 		return "int"
 	case word == "len" || word == "make":
-		m.next()
+		m.Next()
 		typ := m.expr()
-		m.next()
+		m.Next()
 		if word == "len" {
 			return m.gives(at, "int", []string{typ}, "[]int")
 		}
@@ -358,14 +308,14 @@ func (m *model) first() string {
 
 // within reads what stands behind a "(".
 func (m *model) within(at int) string {
-	defer m.next()
+	defer m.Next()
 	switch {
-	case m.is("-"):
+	case m.Is("-"):
 		return m.gives(at, "int", []string{m.expr()}, "int")
-	case m.is("!"):
+	case m.Is("!"):
 		return m.gives(at, "bool", []string{m.expr()}, "bool")
 	}
-	first, sign, second := m.expr(), m.next(), m.expr()
+	first, sign, second := m.expr(), m.Next(), m.expr()
 	both := []string{first, second}
 	switch sign {
 	case "+", "-", "*", "/", "%":
