@@ -11,6 +11,7 @@ import (
 	"portcullis/api"
 	"portcullis/code"
 	"portcullis/machine"
+	"portcullis/sample"
 )
 
 // P15.1: which error New has, of several that apply; and nothing beside it.
@@ -325,7 +326,7 @@ func TestAnswers(t *testing.T) {
 		for range 50 {
 			thread := r.IntN(len(m.Threads))
 			first, second := b.x.State(), b.x.State()
-			want := copiedState(second)
+			want := sample.Copied(second)
 			spoilState(first)
 			o, _ := b.x.Next(thread)
 			again, _ := b.x.Next(thread)

@@ -4,6 +4,7 @@ import (
 	"slices"
 
 	"portcullis/api"
+	"portcullis/sample"
 )
 
 // model is a machine told by the chapter's words alone: all that it is stands in a state, and what has a fault is taken back whole.
@@ -27,31 +28,6 @@ func modelOf(m api.Module, inputs, hatches []int) *model {
 	}
 	x.Queues = make([][]int, len(m.Chans))
 	return x
-}
-
-// eachOf: a list of copies.
-func eachOf[T any](list []T, copied func(T) T) []T {
-	var all []T
-	for _, one := range list {
-		all = append(all, copied(one))
-	}
-	return all
-}
-
-func copiedThread(t api.Thread) api.Thread {
-	t.Frames = eachOf(t.Frames, func(f api.Frame) api.Frame {
-		f.Regs = slices.Clone(f.Regs)
-		return f
-	})
-	return t
-}
-
-// copiedState: a state in memory of its own.
-func copiedState(s api.State) api.State {
-	s.Threads, s.Globals = eachOf(s.Threads, copiedThread), slices.Clone(s.Globals)
-	s.Arenas, s.Objects = eachOf(s.Arenas, slices.Clone), eachOf(s.Objects, slices.Clone)
-	s.Holders, s.Queues, s.Events = slices.Clone(s.Holders), eachOf(s.Queues, slices.Clone), slices.Clone(s.Events)
-	return s
 }
 
 // same: are two states the same, whatever lists without elements are?
@@ -93,7 +69,7 @@ func (x *model) blocked(thread int) bool {
 
 // step: a tick of a thread that is there; the fault that it has had now.
 func (x *model) step(thread int) int {
-	before := copiedState(x.State)
+	before := sample.Copied(x.State)
 	broken := 0
 	if o, ok := x.next(thread); ok && !x.blocked(thread) {
 		broken = x.do(thread, o)

@@ -74,23 +74,6 @@ func TestPrograms(t *testing.T) {
 	}
 }
 
-// orders: each row of picks by which two threads have so many ticks.
-func orders(first, second int, each func(picks []int)) {
-	var more func(picks []int, a, b int)
-	more = func(picks []int, a, b int) {
-		if a+b == 0 {
-			each(picks)
-		}
-		if a > 0 {
-			more(append(picks, 0), a-1, b)
-		}
-		if b > 0 {
-			more(append(picks, 1), a, b-1)
-		}
-	}
-	more(nil, first, second)
-}
-
 // P15.1, P15.2: a slice that one thread sets while another loads it is torn for some picks; with a lock around both, for none.
 func TestTorn(t *testing.T) {
 	for guard, want := range map[string]bool{"": true, "lock l ;": false} {
@@ -98,7 +81,7 @@ func TestTorn(t *testing.T) {
 		s := "lock l ; sink o ; var g [ ] int ; thread a { " + guard + " set g = make ( 2 ) ; " + open + " } thread b { " + guard + " out o g [ 0 ] ; " + open + " }"
 		m := lowered(t, s)
 		torn, told, wrong := 0, 0, 0
-		orders(7, 8, func(picks []int) {
+		sample.Orders(7, 8, func(picks []int) {
 			x, e := machine.New(m, nil, make([]int, 3))
 			if e != api.OK || x.Run(picks...) != api.OK {
 				t.Fatal(e)
@@ -123,7 +106,7 @@ func TestLocks(t *testing.T) {
 	for second, want := range map[string]bool{"lock k ; lock l ;": true, "lock l ; lock k ;": false} {
 		m := lowered(t, "lock l ; lock k ; sink o ; var g int ; thread a { lock l ; lock k ; set g = 1 ; unlock k ; unlock l ; } thread b { "+second+" out o g ; unlock l ; unlock k ; }")
 		stuck, both := 0, 0
-		orders(7, 7, func(picks []int) {
+		sample.Orders(7, 7, func(picks []int) {
 			x, _ := machine.New(m, nil, make([]int, 3))
 			x.Run(picks...)
 			if x.Blocked(0) && x.Blocked(1) {

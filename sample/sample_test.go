@@ -101,3 +101,34 @@ func TestMarked(t *testing.T) {
 		t.Error(got)
 	}
 }
+
+// Of two threads' ticks each order is told once.
+func TestOrders(t *testing.T) {
+	var got [][]int
+	sample.Orders(2, 2, func(picks []int) { got = append(got, slices.Clone(picks)) })
+	want := [][]int{{0, 0, 1, 1}, {0, 1, 0, 1}, {0, 1, 1, 0}, {1, 0, 0, 1}, {1, 0, 1, 0}, {1, 1, 0, 0}}
+	if !reflect.DeepEqual(got, want) {
+		t.Error(got)
+	}
+}
+
+// A copied state is the same, and shares no memory with the first one.
+func TestCopied(t *testing.T) {
+	s := api.State{
+		Tick: 1, Threads: []api.Thread{{Frames: []api.Frame{{Func: 1, Regs: []int{5}}}, Fault: 2}}, Globals: []api.Word{{V: 1}}, Arenas: [][]api.Word{{{V: 2}}},
+		Objects: [][]api.Object{{{At: 3}}}, Holders: []int{4}, Queues: [][]int{{5}}, Events: []api.Event{{Tick: 6}}, Stores: 7, Torn: true, Wild: true,
+	}
+	q := sample.Copied(s)
+	if !reflect.DeepEqual(q, s) {
+		t.Error(q)
+	}
+	for i, write := range []func(){
+		func() { q.Threads[0].Frames[0].Regs[0]++ }, func() { q.Threads[0].Frames[0].Pc++ }, func() { q.Threads[0].Fault++ }, func() { q.Globals[0].V++ }, func() { q.Arenas[0][0].V++ }, func() { q.Arenas[0] = nil },
+		func() { q.Objects[0][0].At++ }, func() { q.Objects[0] = nil }, func() { q.Holders[0]++ }, func() { q.Queues[0][0]++ }, func() { q.Queues[0] = nil }, func() { q.Events[0].Tick++ },
+	} {
+		q = sample.Copied(s)
+		if write(); reflect.DeepEqual(q, s) {
+			t.Error("shared", i)
+		}
+	}
+}

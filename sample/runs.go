@@ -1,0 +1,49 @@
+package sample
+
+import (
+	"slices"
+
+	"portcullis/api"
+)
+
+// Orders tells each row of picks by which two threads have so many ticks. A row is written over once the next one is told.
+func Orders(first, second int, each func(picks []int)) {
+	var more func(picks []int, a, b int)
+	more = func(picks []int, a, b int) {
+		if a+b == 0 {
+			each(picks)
+		}
+		if a > 0 {
+			more(append(picks, 0), a-1, b)
+		}
+		if b > 0 {
+			more(append(picks, 1), a, b-1)
+		}
+	}
+	more(nil, first, second)
+}
+
+// Copied: the same state in memory of its own.
+func Copied(s api.State) api.State {
+	s.Threads, s.Globals = eachOf(s.Threads, copiedThread), slices.Clone(s.Globals)
+	s.Arenas, s.Objects = eachOf(s.Arenas, slices.Clone), eachOf(s.Objects, slices.Clone)
+	s.Holders, s.Queues, s.Events = slices.Clone(s.Holders), eachOf(s.Queues, slices.Clone), slices.Clone(s.Events)
+	return s
+}
+
+func copiedThread(t api.Thread) api.Thread {
+	t.Frames = eachOf(t.Frames, func(f api.Frame) api.Frame {
+		f.Regs = slices.Clone(f.Regs)
+		return f
+	})
+	return t
+}
+
+// eachOf: a list of copies.
+func eachOf[T any](list []T, copied func(T) T) []T {
+	var all []T
+	for _, one := range list {
+		all = append(all, copied(one))
+	}
+	return all
+}

@@ -1,0 +1,92 @@
+package watch_test
+
+import (
+	"math"
+	"slices"
+	"strconv"
+	"strings"
+	"testing"
+
+	"portcullis/api"
+	"portcullis/lower"
+	"portcullis/machine"
+	"portcullis/parse"
+)
+
+// wild: numbers that are hardly ever something that is there.
+var wild = []int{math.MinInt, math.MinInt + 1, -1 << 32, -65, -64, -2, -1, 64, 65, 256, 257, 1 << 32, 1<<32 + 1, 1 << 62, math.MaxInt - 64, math.MaxInt - 1, math.MaxInt}
+
+// forms: the kinds that are written in tests, and which fields the numbers behind them are.
+var forms = map[string]struct {
+	kind   int
+	fields string
+}{
+	"const": {api.OConst, "AK"}, "load": {api.OLoad, "ABK"}, "store": {api.OStore, "ABK"}, "get": {api.OGet, "ABCK"}, "put": {api.OPut, "ABCK"}, "index": {api.OIndex, "ABCD"}, "elem": {api.OElem, "ABCD"},
+	"lock": {api.OLock, "A"}, "unlock": {api.OUnlock, "A"}, "out": {api.OOut, "AB"}, "send": {api.OSend, "AB"}, "recv": {api.ORecv, "AB"}, "return": {api.OReturn, ""},
+}
+
+// op: the operation of a text: its kind and its fields.
+func op(text string) api.Op {
+	words := strings.Fields(text)
+	form := forms[words[0]]
+	o := api.Op{Kind: form.kind}
+	for i, letter := range form.fields {
+		n, _ := strconv.Atoi(words[1+i])
+		*map[rune]*int{'A': &o.A, 'B': &o.B, 'C': &o.C, 'D': &o.D, 'K': &o.K}[letter] = n
+	}
+	return o
+}
+
+// regs: so many registers has each function of codeOf.
+const regs = 6
+
+// codeOf: code with four global words, whose only function has these operations and then halts; four threads run it.
+func codeOf(texts ...string) api.Module {
+	m := api.Module{Globals: []api.Sized{{Size: 1}, {Size: 2}, {Size: 1}}, Chans: []api.Sized{{Size: 1}}, Locks: make([]string, 8), Sinks: make([]string, 1), Threads: []int{0, 0, 0, 0}}
+	f := api.Func{Regs: regs}
+	for i, text := range append(slices.Clone(texts), "return") {
+		o := op(text)
+		if o.Kind != api.OReturn {
+			o.Next = i + 1
+		}
+		f.Code = append(f.Code, o)
+	}
+	m.Funcs = []api.Func{f}
+	return m
+}
+
+// stateOf: a state of code of codeOf in which each thread is at the operation that is told of it, with these words in its registers; three threads have 64, 5 and 0 words in use, the last one 1.
+func stateOf(words []int, places ...int) api.State {
+	s := api.State{Globals: make([]api.Word, 4), Arenas: [][]api.Word{make([]api.Word, 64), make([]api.Word, 5), nil, make([]api.Word, 1)}, Objects: make([][]api.Object, 4)}
+	s.Holders = slices.Repeat([]int{-1}, 8)
+	for _, pc := range places {
+		own := make([]int, regs)
+		copy(own, words)
+		s.Threads = append(s.Threads, api.Thread{Frames: []api.Frame{{Pc: pc, To: -1, Regs: own}}})
+	}
+	return s
+}
+
+// lowered: the code of a text, which must have one.
+func lowered(t *testing.T, text string) api.Module {
+	t.Helper()
+	p, at, e := parse.Program(text)
+	if e != api.OK {
+		t.Fatalf("%.300q: %d %d", text, at, e)
+	}
+	m, e := lower.Lower(p, []string{"h0", "h1", "h2"})
+	if e != api.OK {
+		t.Fatalf("%.300q: %d", text, e)
+	}
+	return m
+}
+
+// begun: a machine of code that has no more inputs and hatches than are told here.
+func begun(t *testing.T, m api.Module) *machine.Machine {
+	t.Helper()
+	x, e := machine.New(m, []int{3, 0, -1, 2, 1, 5, 4, 7}[:len(m.Inputs)], []int{2, 1, 0}[:len(m.Hatches)])
+	if e != api.OK {
+		t.Fatal(e)
+	}
+	return x
+}
