@@ -8,6 +8,7 @@ import (
 
 	"portcullis/api"
 	"portcullis/code"
+	"portcullis/sample"
 )
 
 // told holds all calls' answers of code against the chapter's words.
@@ -329,31 +330,6 @@ func TestShow(t *testing.T) {
 	}
 }
 
-// room: the same list, with something in its memory behind its end.
-func room[T any](list []T, spare T) []T { return append(slices.Clone(list), spare)[:len(list)] }
-
-// whole: a copy of a list that goes to the end of its memory.
-func whole[T any](list []T, _ T) []T { return slices.Clone(list[:cap(list)]) }
-
-// copied: code with a copy of each list, which of these two functions makes.
-func copied(m api.Module, open bool) api.Module {
-	texts, sized, ints, funcs, ops := room[string], room[api.Sized], room[int], room[api.Func], room[api.Op]
-	if open {
-		texts, sized, ints, funcs, ops = whole, whole, whole, whole, whole
-	}
-	spare := api.Sized{Name: "spare", Size: 77}
-	m.Globals, m.Structs, m.Chans = sized(m.Globals, spare), sized(m.Structs, spare), sized(m.Chans, spare)
-	m.Locks, m.Inputs, m.Sinks, m.Hatches = texts(m.Locks, "spare"), texts(m.Inputs, "spare"), texts(m.Sinks, "spare"), texts(m.Hatches, "spare")
-	m.Threads, m.Funcs = ints(m.Threads, 77), funcs(m.Funcs, api.Func{Name: "spare"})
-	for i := range m.Funcs {
-		m.Funcs[i].Code = ops(m.Funcs[i].Code, api.Op{Kind: 77})
-		for j, o := range m.Funcs[i].Code {
-			m.Funcs[i].Code[j].Args = ints(o.Args, 77)
-		}
-	}
-	return m
-}
-
 // P10.3, P2: what is handed in is as it was, in its spare room too, which counts for nothing; and a call answers the same again.
 func TestUnchanged(t *testing.T) {
 	r := maker{rand.New(rand.NewPCG(10, 3))}
@@ -362,12 +338,12 @@ func TestUnchanged(t *testing.T) {
 		if i%2 == 1 {
 			m.Funcs[0].Code[0].Kind = 24
 		}
-		m = copied(m, false)
-		want := copied(m, true)
+		m = sample.SpareCode(m)
+		want := sample.WholeCode(m)
 		told(t, m, i%2 == 0)
 		first, _ := code.Show(m)
 		second, _ := code.Show(m)
-		if first != second || !reflect.DeepEqual(copied(m, true), want) {
+		if first != second || !reflect.DeepEqual(sample.WholeCode(m), want) {
 			t.Errorf("changed: %+v", m)
 		}
 	}

@@ -66,7 +66,7 @@ func TestBegin(t *testing.T) {
 		most.Chans = append(most.Chans, api.Sized{Size: 1 + i})
 	}
 	for i := range 12 {
-		most.Funcs = append(most.Funcs, api.Func{Regs: []int{1024, 0, 1, 7}[i%4], Code: slices.Repeat(ops("return"), 341)})
+		most.Funcs = append(most.Funcs, api.Func{Regs: []int{1024, 0, 1, 7}[i%4], Code: slices.Repeat(sample.Ops("return"), 341)})
 	}
 	b := begin(t, most, make([]int, 8), make([]int, 8))
 	s := b.x.State()

@@ -3,68 +3,17 @@ package machine_test
 import (
 	"fmt"
 	"math/rand/v2"
-	"slices"
-	"strconv"
 	"strings"
 	"testing"
 
 	"portcullis/api"
 	"portcullis/code"
 	"portcullis/machine"
+	"portcullis/sample"
 )
 
-// forms are the kinds in the order of api: the name, the fields, and what may stand in each: a number of a register (p, if an object must be in it, q and n, where a slice begins and how long it is), an input, a hatch, a global word, a struct, a lock, a channel, a sink or a function (its first letter), of an object's word (x), of an operator with one (u) or two (b) operands, 0 or 1 (k), any number (*).
-const forms = `const AK r*; input AB ri; release AB rh; move AB rr; unary ABK rru; binary ABCK rrrb; load ABK rgk; store ABK grk; new AB ps; make ABC qnr; get ABCK rpxk; put ABCK pxrk;
-index ABCD rqnr; elem ABCD qnrr; cut ABCDEF qnqnrr; lock A l; unlock A l; send AB cr; recv AB rc; out AB or; if A r; call ABK f**; return`
-
-// kinds: of each kind its form's words, from 1 on.
-var kinds = func() [][]string {
-	list := [][]string{nil}
-	for _, form := range strings.Split(forms, ";") {
-		list = append(list, append(strings.Fields(form), "", ""))
-	}
-	return list
-}()
-
-// field: the field of a letter.
-func field(o *api.Op, letter rune) *int {
-	return map[rune]*int{'A': &o.A, 'B': &o.B, 'C': &o.C, 'D': &o.D, 'E': &o.E, 'F': &o.F, 'K': &o.K}[letter]
-}
-
-// ops: the operations of a text, parted by ";": the kind, its fields, an "r" ahead of each of the Args, "> " ahead of Next where it isn't the operation behind, "| " ahead of Else.
-func ops(text string) []api.Op {
-	var list []api.Op
-	for i, line := range strings.Split(text, ";") {
-		words := strings.Fields(line)
-		o := api.Op{Kind: slices.IndexFunc(kinds, func(form []string) bool { return form != nil && form[0] == words[0] }), Next: i + 1, At: i}
-		if o.Kind == api.OReturn {
-			o.Next = 0
-		}
-		words = words[1:]
-		number := func() int {
-			n, _ := strconv.Atoi(strings.TrimPrefix(words[0], "r"))
-			words = words[1:]
-			return n
-		}
-		for _, letter := range kinds[o.Kind][1] {
-			*field(&o, letter) = number()
-		}
-		for len(words) > 0 {
-			switch words[0] {
-			case ">":
-				words = words[1:]
-				o.Next = number()
-			case "|":
-				words = words[1:]
-				o.Else = number()
-			default:
-				o.Args = append(o.Args, number())
-			}
-		}
-		list = append(list, o)
-	}
-	return list
-}
+// kinds: of each kind of operation its name, its fields, and what may stand in each.
+var kinds = sample.Kinds()
 
 // told: all that a state is, but for the tick and what is as it was at the tick 0; of registers those up to the last one that isn't 0.
 func told(s api.State) string {
@@ -216,7 +165,7 @@ func (r maker) module() api.Module {
 			f.Code[k] = r.op(m, *f, k)
 		}
 		if r.IntN(4) > 0 {
-			begin := ops(fmt.Sprint("const 3 ", []int{1, 2, 3, 5, 9, 40}[r.IntN(6)], "; make 0 1 3; new 2 0; const 3 ", r.IntN(4), " > 0"))
+			begin := sample.Ops(fmt.Sprint("const 3 ", []int{1, 2, 3, 5, 9, 40}[r.IntN(6)], "; make 0 1 3; new 2 0; const 3 ", r.IntN(4), " > 0"))
 			begin[3].Next = 4 % len(f.Code)
 			copy(f.Code, begin)
 		}
@@ -259,15 +208,15 @@ func (r maker) op(m api.Module, f api.Func, place int) api.Op {
 	for i, letter := range kinds[kind][1] {
 		switch what := kinds[kind][2][i]; what {
 		case '*':
-			*field(&o, letter) = r.number()
+			*sample.Field(&o, letter) = r.number()
 		case 'u':
 			o.K = 1 + r.IntN(2)
 		case 'b':
 			o.K = 1 + r.IntN(11)
 		case 'r', 'p', 'q', 'n':
-			*field(&o, letter) = r.register(f, what)
+			*sample.Field(&o, letter) = r.register(f, what)
 		default:
-			*field(&o, letter) = r.IntN(most[what])
+			*sample.Field(&o, letter) = r.IntN(most[what])
 		}
 	}
 	args := 0

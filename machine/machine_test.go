@@ -8,6 +8,7 @@ import (
 	"testing"
 
 	"portcullis/api"
+	"portcullis/sample"
 )
 
 // wild: numbers far from all others, and at their ends.
@@ -38,17 +39,17 @@ func threads(texts ...string) api.Module {
 	}
 	numbered := func(text string) []api.Op {
 		text = strings.NewReplacer(names...).Replace(text)
-		return ops(strings.TrimPrefix(text+"; return", "; "))
+		return sample.Ops(strings.TrimPrefix(text+"; return", "; "))
 	}
 	for i, text := range texts {
 		m.Threads = append(m.Threads, i)
 		m.Funcs = append(m.Funcs, api.Func{Regs: 8, Code: numbered(text)})
 	}
 	m.Funcs = append(m.Funcs,
-		api.Func{Params: 2, Regs: 4, Result: 1, Code: ops("binary 3 0 1 2; return r3")},
-		api.Func{Regs: 3, Result: 2, Code: ops("const 1 5; const 2 6; return r2 r1")},
+		api.Func{Params: 2, Regs: 4, Result: 1, Code: sample.Ops("binary 3 0 1 2; return r3")},
+		api.Func{Regs: 3, Result: 2, Code: sample.Ops("const 1 5; const 2 6; return r2 r1")},
 		api.Func{Params: 1, Regs: 1, Code: numbered("out 0 0; call DEEP -1 0 r0")},
-		api.Func{Params: 2, Regs: 2, Result: 1, Code: ops("return r1")})
+		api.Func{Params: 2, Regs: 2, Result: 1, Code: sample.Ops("return r1")})
 	return m
 }
 
@@ -264,9 +265,9 @@ func TestFrames(t *testing.T) {
 // P15.1: calls within each other give their results back, each to where it was called; registers of a call that is gone are nobody's.
 func TestResults(t *testing.T) {
 	m := api.Module{Threads: []int{0}, Sinks: []string{"o"}, Inputs: []string{"i"}, Funcs: []api.Func{
-		{Regs: 2, Code: ops("input 0 0; call 1 0 1 r0; out 0 0; call 1 1 1 r1; out 0 1; return")},
+		{Regs: 2, Code: sample.Ops("input 0 0; call 1 0 1 r0; out 0 0; call 1 1 1 r1; out 0 1; return")},
 		// The product of all from 1 on; of none and of less it is 1, in a register that must be 0 at first.
-		{Params: 1, Regs: 4, Result: 1, Code: ops("binary 2 1 0 8; if 2 > 4 | 2; const 1 1; return r1; const 3 -1; binary 3 0 3 1; const 1 1; if 0 > 8 | 2; call 1 1 1 r3; binary 1 0 1 3; return r1")},
+		{Params: 1, Regs: 4, Result: 1, Code: sample.Ops("binary 2 1 0 8; if 2 > 4 | 2; const 1 1; return r1; const 3 -1; binary 3 0 3 1; const 1 1; if 0 > 8 | 2; call 1 1 1 r3; binary 1 0 1 3; return r1")},
 	}}
 	for input, want := range map[int][2]int{5: {120, 1}, 0: {1, 1}, -3: {1, 1}, 3: {6, 1}, 1: {1, 1}} {
 		b := begin(t, m, []int{input}, nil)

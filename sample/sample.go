@@ -1,4 +1,4 @@
-// Package sample makes texts of programs for tests.
+// Package sample makes texts of programs, and code, for tests.
 package sample
 
 import (

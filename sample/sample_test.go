@@ -7,6 +7,7 @@ import (
 	"testing"
 
 	"portcullis/api"
+	"portcullis/code"
 	"portcullis/parse"
 	"portcullis/sample"
 	"portcullis/scope"
@@ -129,6 +130,97 @@ func TestCopied(t *testing.T) {
 		q = sample.Copied(s)
 		if write(); reflect.DeepEqual(q, s) {
 			t.Error("shared", i)
+		}
+	}
+}
+
+// What stands behind a list's end is seen in the whole code, wherever the list is.
+func TestSpareCode(t *testing.T) {
+	sized := []api.Sized{{Size: 1}}
+	m := api.Module{Globals: sized, Structs: sized, Chans: sized, Locks: []string{"l"}, Inputs: []string{"i"}, Sinks: []string{"o"}, Hatches: []string{"h"}, Threads: []int{0}}
+	m.Funcs = []api.Func{{Regs: 1, Result: 1, Code: sample.Ops("return r0")}}
+	q := sample.SpareCode(m)
+	if reflect.DeepEqual(sample.WholeCode(q), q) || !reflect.DeepEqual(q, m) {
+		t.Error(q)
+	}
+	for i, write := range []func(){
+		func() { _ = append(q.Globals, api.Sized{}) }, func() { _ = append(q.Structs, api.Sized{}) }, func() { _ = append(q.Chans, api.Sized{}) },
+		func() { _ = append(q.Locks, "") }, func() { _ = append(q.Inputs, "") }, func() { _ = append(q.Sinks, "") }, func() { _ = append(q.Hatches, "") },
+		func() { _ = append(q.Threads, 0) }, func() { _ = append(q.Funcs, api.Func{}) }, func() { _ = append(q.Funcs[0].Code, api.Op{}) }, func() { _ = append(q.Funcs[0].Code[0].Args, 0) },
+	} {
+		before := sample.WholeCode(q)
+		if write(); reflect.DeepEqual(sample.WholeCode(q), before) {
+			t.Error("not seen", i)
+		}
+	}
+}
+
+// The kinds of operations have the names, and the fields, that code's text tells.
+func TestKinds(t *testing.T) {
+	kinds := sample.Kinds()
+	for kind := api.OConst; kind <= api.OReturn; kind++ {
+		o := api.Op{Kind: kind}
+		for _, letter := range kinds[kind][1] {
+			*sample.Field(&o, letter) = 1
+		}
+		m := api.Module{Globals: []api.Sized{{Size: 2}}, Structs: []api.Sized{{}, {}}, Chans: []api.Sized{{Size: 1}, {Size: 1}}, Locks: make([]string, 2), Inputs: make([]string, 2), Sinks: make([]string, 2), Hatches: make([]string, 2)}
+		m.Funcs = []api.Func{{Regs: 8, Code: []api.Op{o, {Kind: api.OReturn}}}, {Regs: 8, Result: 1, Code: sample.Ops("return r0")}}
+		if kind == api.OMake || kind == api.OCut {
+			m.Funcs[0].Code[0].B = 2
+		}
+		text, err := code.Show(m)
+		if err != api.OK || strings.Fields(text)[6] != kinds[kind][0] || len(kinds[kind][1]) != len(kinds[kind][2]) {
+			t.Error(kind, text, err)
+		}
+	}
+	if len(kinds) != api.OReturn+1 {
+		t.Error(len(kinds))
+	}
+}
+
+// A text's operations are read with all that they have.
+func TestOps(t *testing.T) {
+	got := sample.Ops("const 1 -5; cut 1 2 3 4 5 6 > 0; if 7 > 3 | 4; binary 1 2 3 11; call 2 -1 0 r3 r0; call 2 4 1 > 1; return; return r1 r2")
+	want := []api.Op{
+		{Kind: api.OConst, A: 1, K: -5, Next: 1}, {Kind: api.OCut, A: 1, B: 2, C: 3, D: 4, E: 5, F: 6, At: 1}, {Kind: api.OIf, A: 7, Next: 3, Else: 4, At: 2}, {Kind: api.OBinary, A: 1, B: 2, C: 3, K: 11, Next: 4, At: 3},
+		{Kind: api.OCall, A: 2, B: -1, Args: []int{3, 0}, Next: 5, At: 4}, {Kind: api.OCall, A: 2, B: 4, K: 1, Next: 1, At: 5}, {Kind: api.OReturn, At: 6}, {Kind: api.OReturn, Args: []int{1, 2}, At: 7},
+	}
+	if !reflect.DeepEqual(got, want) {
+		t.Error(got)
+	}
+}
+
+// All code can be run, and is the same for the same seed; kinds that are told stand there more often.
+func TestCode(t *testing.T) {
+	kinds, threads := map[int]int{}, map[int]int{}
+	for seed := range uint64(1000) {
+		m, often := sample.Code(seed), sample.Code(seed, api.OLock, api.OUnlock)
+		if !code.Right(m) || !code.Right(often) || !reflect.DeepEqual(m, sample.Code(seed)) {
+			t.Fatal(seed)
+		}
+		threads[len(m.Threads)]++
+		for _, f := range m.Funcs {
+			for _, o := range f.Code {
+				kinds[o.Kind]++
+			}
+		}
+		for _, f := range often.Funcs {
+			for _, o := range f.Code {
+				kinds[-o.Kind]++
+			}
+		}
+	}
+	for kind := api.OConst; kind <= api.OReturn; kind++ {
+		if kinds[kind] < 500 || kinds[-kind] == 0 {
+			t.Error(kind, kinds[kind], kinds[-kind])
+		}
+	}
+	if locks := kinds[-api.OLock] + kinds[-api.OUnlock]; locks < 10000 || kinds[-api.OConst]*10 > locks {
+		t.Error(locks)
+	}
+	for n := range 5 {
+		if threads[n] < 100 {
+			t.Error(n, threads[n])
 		}
 	}
 }

@@ -18,6 +18,12 @@ func Whole(p api.Program) api.Program { return rooms(true).program(p) }
 // WholeExpr: likewise of an expression.
 func WholeExpr(e api.Expr) api.Expr { return rooms(true).exprs([]api.Expr{e})[0] }
 
+// SpareCode: as Spare, of code.
+func SpareCode(m api.Module) api.Module { return rooms(false).module(m) }
+
+// WholeCode: as Whole, of code.
+func WholeCode(m api.Module) api.Module { return rooms(true).module(m) }
+
 // rooms tells whether the memory behind lists is opened, or made.
 type rooms bool
 
@@ -51,4 +57,18 @@ func (r rooms) exprs(list []api.Expr) []api.Expr {
 		list[i].Args = r.exprs(e.Args)
 	}
 	return list
+}
+
+func (r rooms) module(m api.Module) api.Module {
+	spare := api.Sized{Name: "spare", Size: 77}
+	m.Globals, m.Structs, m.Chans = room(r, m.Globals, spare), room(r, m.Structs, spare), room(r, m.Chans, spare)
+	m.Locks, m.Inputs, m.Sinks, m.Hatches = room(r, m.Locks, "spare"), room(r, m.Inputs, "spare"), room(r, m.Sinks, "spare"), room(r, m.Hatches, "spare")
+	m.Threads, m.Funcs = room(r, m.Threads, 77), room(r, m.Funcs, api.Func{Name: "spare"})
+	for i, f := range m.Funcs {
+		m.Funcs[i].Code = room(r, f.Code, api.Op{Kind: 77})
+		for k, o := range m.Funcs[i].Code {
+			m.Funcs[i].Code[k].Args = room(r, o.Args, 77)
+		}
+	}
+	return m
 }

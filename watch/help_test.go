@@ -3,7 +3,6 @@ package watch_test
 import (
 	"math"
 	"slices"
-	"strconv"
 	"strings"
 	"testing"
 
@@ -11,31 +10,11 @@ import (
 	"portcullis/lower"
 	"portcullis/machine"
 	"portcullis/parse"
+	"portcullis/sample"
 )
 
 // wild: numbers that are hardly ever something that is there.
 var wild = []int{math.MinInt, math.MinInt + 1, -1 << 32, -65, -64, -2, -1, 64, 65, 256, 257, 1 << 32, 1<<32 + 1, 1 << 62, math.MaxInt - 64, math.MaxInt - 1, math.MaxInt}
-
-// forms: the kinds that are written in tests, and which fields the numbers behind them are.
-var forms = map[string]struct {
-	kind   int
-	fields string
-}{
-	"const": {api.OConst, "AK"}, "load": {api.OLoad, "ABK"}, "store": {api.OStore, "ABK"}, "get": {api.OGet, "ABCK"}, "put": {api.OPut, "ABCK"}, "index": {api.OIndex, "ABCD"}, "elem": {api.OElem, "ABCD"},
-	"lock": {api.OLock, "A"}, "unlock": {api.OUnlock, "A"}, "out": {api.OOut, "AB"}, "send": {api.OSend, "AB"}, "recv": {api.ORecv, "AB"}, "return": {api.OReturn, ""},
-}
-
-// op: the operation of a text: its kind and its fields.
-func op(text string) api.Op {
-	words := strings.Fields(text)
-	form := forms[words[0]]
-	o := api.Op{Kind: form.kind}
-	for i, letter := range form.fields {
-		n, _ := strconv.Atoi(words[1+i])
-		*map[rune]*int{'A': &o.A, 'B': &o.B, 'C': &o.C, 'D': &o.D, 'K': &o.K}[letter] = n
-	}
-	return o
-}
 
 // regs: so many registers has each function of codeOf.
 const regs = 6
@@ -43,15 +22,8 @@ const regs = 6
 // codeOf: code with four global words, whose only function has these operations and then halts; four threads run it.
 func codeOf(texts ...string) api.Module {
 	m := api.Module{Globals: []api.Sized{{Size: 1}, {Size: 2}, {Size: 1}}, Chans: []api.Sized{{Size: 1}}, Locks: make([]string, 8), Sinks: make([]string, 1), Threads: []int{0, 0, 0, 0}}
-	f := api.Func{Regs: regs}
-	for i, text := range append(slices.Clone(texts), "return") {
-		o := op(text)
-		if o.Kind != api.OReturn {
-			o.Next = i + 1
-		}
-		f.Code = append(f.Code, o)
-	}
-	m.Funcs = []api.Func{f}
+	text := strings.Join(append(slices.Clone(texts), "return"), ";")
+	m.Funcs = []api.Func{{Regs: regs, Code: sample.Ops(text)}}
 	return m
 }
 
