@@ -8,25 +8,9 @@ import (
 	"testing"
 
 	"portcullis/api"
-	"portcullis/lower"
 	"portcullis/machine"
-	"portcullis/parse"
 	"portcullis/sample"
 )
-
-// lowered: the code of a text, which must have one; its hatches are h0 to h2.
-func lowered(t *testing.T, s string) api.Module {
-	t.Helper()
-	p, at, e := parse.Program(s)
-	if e != api.OK {
-		t.Fatalf("%.300q: %d %d", s, at, e)
-	}
-	m, e := lower.Lower(p, []string{"h0", "h1", "h2"})
-	if e != api.OK {
-		t.Fatalf("%.300q: %d", s, e)
-	}
-	return m
-}
 
 // outcome: what sinks were told, each a tick, a thread, a sink and a value; then the faults, and the tick.
 func outcome(s api.State) string {
@@ -65,7 +49,7 @@ func TestPrograms(t *testing.T) {
 		"thread t { while true { set p = new n ; out o g ; set g = ( g + 1 ) ; } }":                                                                                                                  "5:0 0=0 15:0 0=1 25:0 0=2 35:0 0=3 45:0 0=4 55:0 0=5 65:0 0=6 75:0 0=7 85:0 0=8 95:0 0=9 105:0 0=10 115:0 0=11 | !4",
 		"thread t { out o gs [ 0 ] ; }": "| !3",
 	} {
-		m := lowered(t, ahead+text)
+		m := sample.Lowered(ahead + text)
 		b := begin(t, m, []int{5, -3}, []int{42, 43, 44})
 		b.run(make([]int, 150)...)
 		if got := outcome(b.x.State()); got != want {
@@ -79,7 +63,7 @@ func TestTorn(t *testing.T) {
 	for guard, want := range map[string]bool{"": true, "lock l ;": false} {
 		open := strings.Replace(guard, "lock", "unlock", 1)
 		s := "lock l ; sink o ; var g [ ] int ; thread a { " + guard + " set g = make ( 2 ) ; " + open + " } thread b { " + guard + " out o g [ 0 ] ; " + open + " }"
-		m := lowered(t, s)
+		m := sample.Lowered(s)
 		torn, told, wrong := 0, 0, 0
 		sample.Orders(7, 8, func(picks []int) {
 			x, e := machine.New(m, nil, make([]int, 3))
@@ -104,7 +88,7 @@ func TestTorn(t *testing.T) {
 // P15.1: of two threads that take two locks in unlike orders, some picks leave both waiting; in one order none do.
 func TestLocks(t *testing.T) {
 	for second, want := range map[string]bool{"lock k ; lock l ;": true, "lock l ; lock k ;": false} {
-		m := lowered(t, "lock l ; lock k ; sink o ; var g int ; thread a { lock l ; lock k ; set g = 1 ; unlock k ; unlock l ; } thread b { "+second+" out o g ; unlock l ; unlock k ; }")
+		m := sample.Lowered("lock l ; lock k ; sink o ; var g int ; thread a { lock l ; lock k ; set g = 1 ; unlock k ; unlock l ; } thread b { " + second + " out o g ; unlock l ; unlock k ; }")
 		stuck, both := 0, 0
 		sample.Orders(7, 7, func(picks []int) {
 			x, _ := machine.New(m, nil, make([]int, 3))
@@ -130,7 +114,7 @@ func TestSamples(t *testing.T) {
 	r := maker{rand.New(rand.NewPCG(15, 7))}
 	events := 0
 	for seed := range uint64(400) {
-		m := lowered(t, sample.Program(seed, 0))
+		m := sample.Lowered(sample.Program(seed, 0))
 		b := begin(t, m, r.numbers(len(m.Inputs)), r.numbers(3))
 		for range 60 * len(m.Threads) {
 			b.run(r.IntN(len(m.Threads)))

@@ -14,22 +14,16 @@ import (
 // regs: so many registers has each function of codeOf.
 const regs = 6
 
-// codeOf: code with five global words, whose threads run the functions of these numbers. A function is told by how many parameters it has and how many words it gives, ahead of ":", and its operations.
+// codeOf: code with five global words, whose threads run the functions of these numbers, and whose functions are told as sample.Funcs tells them.
 func codeOf(threads []int, funcs ...string) api.Module {
-	m := api.Module{
+	return api.Module{
 		Globals: []api.Sized{{Size: 1}, {Size: 2}, {Size: 2}},
 		Structs: []api.Sized{{Size: 3}, {Size: 0}, {Size: 16}},
 		Chans:   []api.Sized{{Size: 1}},
 		Locks:   make([]string, 2), Inputs: make([]string, 2), Sinks: make([]string, 2), Hatches: make([]string, 2),
 		Threads: threads,
+		Funcs:   sample.Funcs(regs, funcs...),
 	}
-	for _, text := range funcs {
-		head, ops, _ := strings.Cut(text, ":")
-		f := api.Func{Regs: regs, Code: sample.Ops(ops)}
-		fmt.Sscan(head, &f.Params, &f.Result)
-		m.Funcs = append(m.Funcs, f)
-	}
-	return m
 }
 
 // listed: numbers, parted by "+".

@@ -1,10 +1,8 @@
 package points
 
 import (
-	"maps"
-	"slices"
-
 	"portcullis/api"
+	"portcullis/calls"
 	"portcullis/code"
 )
 
@@ -25,7 +23,7 @@ func newMaker(module api.Module) *maker {
 	m := &maker{module: module, regs: map[body]int{}}
 	m.globals = m.more(code.Words(module))
 	for thread, first := range module.Threads {
-		m.reach = append(m.reach, called(module, first))
+		m.reach = append(m.reach, calls.From(module, first))
 		for _, fn := range m.reach[thread] {
 			f := module.Funcs[fn]
 			m.regs[body{thread, fn}] = m.more(f.Regs + f.Result)
@@ -37,25 +35,6 @@ func newMaker(module api.Module) *maker {
 		}
 	}
 	return m
-}
-
-// called: the functions that a thread may call which runs the first one, rising.
-func called(module api.Module, first int) []int {
-	met := map[int]struct{}{}
-	var call func(fn int)
-	call = func(fn int) {
-		if _, there := met[fn]; there {
-			return
-		}
-		met[fn] = struct{}{}
-		for _, o := range module.Funcs[fn].Code {
-			if o.Kind == api.OCall {
-				call(o.A)
-			}
-		}
-	}
-	call(first)
-	return slices.Sorted(maps.Keys(met))
 }
 
 // reg: the variable of a register.

@@ -8,9 +8,7 @@ import (
 	"testing"
 
 	"portcullis/api"
-	"portcullis/lower"
 	"portcullis/machine"
-	"portcullis/parse"
 	"portcullis/sample"
 )
 
@@ -24,29 +22,11 @@ type run struct {
 	met  map[int]int // how many operations of each kind have named an object
 }
 
-// lowered: the code of a text, which must have one.
-func lowered(t *testing.T, text string) api.Module {
-	t.Helper()
-	tree, at, e := parse.Program(text)
-	if e != api.OK {
-		t.Fatalf("%.300q: %d %d", text, at, e)
-	}
-	m, e := lower.Lower(tree, []string{"h0", "h1", "h2"})
-	if e != api.OK {
-		t.Fatalf("%.300q: %d", text, e)
-	}
-	return m
-}
-
 // begun: a machine of a text's code at the tick 0.
 func begun(t *testing.T, text string, met map[int]int) run {
 	t.Helper()
-	m := lowered(t, text)
-	x, e := machine.New(m, []int{3, 0, -1, 2, 1, 5, 4, 7}[:len(m.Inputs)], []int{2, 1, 0}[:len(m.Hatches)])
-	if e != api.OK {
-		t.Fatal(e)
-	}
-	return run{t, text, m, find(t, m), x, met}
+	m := sample.Lowered(text)
+	return run{t, text, m, find(t, m), sample.Begun(m), met}
 }
 
 // tick: a tick of a thread, if nothing was torn or wild yet; ahead of it all threads' next operations are held against what was found.

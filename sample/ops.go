@@ -57,6 +57,17 @@ func Ops(text string) []api.Op {
 	return list
 }
 
+// Funcs: functions with so many registers each. A text tells how many parameters one has and how many words it gives, ahead of ":", and its operations.
+func Funcs(regs int, texts ...string) []api.Func {
+	var list []api.Func
+	for _, text := range texts {
+		head, ops, _ := strings.Cut(text, ":")
+		counts := strings.Fields(head)
+		list = append(list, api.Func{Params: number(counts[0]), Regs: regs, Result: number(counts[1]), Code: Ops(ops)})
+	}
+	return list
+}
+
 // number: that of a word, which may have an "r" ahead.
 func number(word string) int {
 	n, _ := strconv.Atoi(strings.TrimPrefix(word, "r"))

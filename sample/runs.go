@@ -4,7 +4,32 @@ import (
 	"slices"
 
 	"portcullis/api"
+	"portcullis/lower"
+	"portcullis/machine"
+	"portcullis/parse"
 )
+
+// Lowered: the code of a text, which must have one; its hatches are h0 to h2.
+func Lowered(text string) api.Module {
+	p, at, e := parse.Program(text)
+	if e != api.OK {
+		panic(e.Error() + " at " + text[min(at, len(text)):])
+	}
+	m, e := lower.Lower(p, []string{"h0", "h1", "h2"})
+	if e != api.OK {
+		panic(e.Error() + " of " + text)
+	}
+	return m
+}
+
+// Begun: a machine of code that can be run, with at most three hatches.
+func Begun(m api.Module) *machine.Machine {
+	x, e := machine.New(m, []int{3, 0, -1, 2, 1, 5, 4, 7}[:len(m.Inputs)], []int{2, 1, 0}[:len(m.Hatches)])
+	if e != api.OK {
+		panic(e.Error())
+	}
+	return x
+}
 
 // Orders tells each row of picks by which two threads have so many ticks. A row is written over once the next one is told.
 func Orders(first, second int, each func(picks []int)) {

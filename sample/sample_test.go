@@ -190,6 +190,34 @@ func TestOps(t *testing.T) {
 	}
 }
 
+// Functions are read with their counts, of which there may be blanks around.
+func TestFuncs(t *testing.T) {
+	got := sample.Funcs(5, "0 0: return", " 2 1 : move 2 0; return r1")
+	want := []api.Func{{Regs: 5, Code: sample.Ops("return")}, {Params: 2, Regs: 5, Result: 1, Code: sample.Ops("move 2 0; return r1")}}
+	if !reflect.DeepEqual(got, want) {
+		t.Error(got)
+	}
+}
+
+// A text's code has three hatches; its machine has as many inputs as it asks for.
+func TestBegun(t *testing.T) {
+	text := "input i ; sink o ; thread t { out o release h2 ; out o i ; }"
+	m := sample.Lowered(text)
+	x := sample.Begun(m)
+	x.Run(0, 0, 0, 0)
+	want := []api.Event{{Tick: 1, Value: 0}, {Tick: 3, Value: 3}}
+	if got := x.State().Events; !slices.Equal(got, want) || len(m.Hatches) != 3 {
+		t.Error(got, m.Hatches)
+	}
+	for _, wrong := range []string{"input", text + "lock i ;", "sink o ; thread t { out o release h3 ; }", "thread t { set i = 1 ; }"} {
+		func() {
+			defer func() { recover() }()
+			sample.Lowered(wrong)
+			t.Error("no panic", wrong)
+		}()
+	}
+}
+
 // All code can be run, and is the same for the same seed; kinds that are told stand there more often.
 func TestCode(t *testing.T) {
 	kinds, threads := map[int]int{}, map[int]int{}

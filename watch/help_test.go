@@ -4,12 +4,8 @@ import (
 	"math"
 	"slices"
 	"strings"
-	"testing"
 
 	"portcullis/api"
-	"portcullis/lower"
-	"portcullis/machine"
-	"portcullis/parse"
 	"portcullis/sample"
 )
 
@@ -37,28 +33,4 @@ func stateOf(words []int, places ...int) api.State {
 		s.Threads = append(s.Threads, api.Thread{Frames: []api.Frame{{Pc: pc, To: -1, Regs: own}}})
 	}
 	return s
-}
-
-// lowered: the code of a text, which must have one.
-func lowered(t *testing.T, text string) api.Module {
-	t.Helper()
-	p, at, e := parse.Program(text)
-	if e != api.OK {
-		t.Fatalf("%.300q: %d %d", text, at, e)
-	}
-	m, e := lower.Lower(p, []string{"h0", "h1", "h2"})
-	if e != api.OK {
-		t.Fatalf("%.300q: %d", text, e)
-	}
-	return m
-}
-
-// begun: a machine of code that has no more inputs and hatches than are told here.
-func begun(t *testing.T, m api.Module) *machine.Machine {
-	t.Helper()
-	x, e := machine.New(m, []int{3, 0, -1, 2, 1, 5, 4, 7}[:len(m.Inputs)], []int{2, 1, 0}[:len(m.Hatches)])
-	if e != api.OK {
-		t.Fatal(e)
-	}
-	return x
 }

@@ -72,8 +72,8 @@ func TestSamples(t *testing.T) {
 	r := rand.New(rand.NewPCG(16, 1))
 	met := map[string]int{}
 	for seed := range uint64(300) {
-		m := lowered(t, sample.Program(seed, 0))
-		x := begun(t, m)
+		m := sample.Lowered(sample.Program(seed, 0))
+		x := sample.Begun(m)
 		for range 60 * len(m.Threads) {
 			s := x.State()
 			for range r.IntN(4) {
@@ -171,7 +171,7 @@ func seek(r *rand.Rand, m api.Module, call *api.Frame) {
 func seenBy(t *testing.T, m api.Module, first, second int) map[string]int {
 	met := map[string]int{}
 	sample.Orders(first, second, func(picks []int) {
-		x := begun(t, m)
+		x := sample.Begun(m)
 		all := watch.Look(m, x.State())
 		for _, thread := range picks {
 			x.Step(thread)
@@ -192,7 +192,7 @@ func seenBy(t *testing.T, m api.Module, first, second int) map[string]int {
 func TestGuarded(t *testing.T) {
 	for guard, free := range map[string]bool{"": false, "lock l ;": true} {
 		open := strings.Replace(guard, "lock", "unlock", 1)
-		m := lowered(t, "lock l ; sink o ; var g [ ] int ; thread a { "+guard+" set g = make ( 2 ) ; "+open+" } thread b { "+guard+" out o len ( g ) ; "+open+" }")
+		m := sample.Lowered("lock l ; sink o ; var g [ ] int ; thread a { " + guard + " set g = make ( 2 ) ; " + open + " } thread b { " + guard + " out o len ( g ) ; " + open + " }")
 		met := seenBy(t, m, 7, 6)
 		if free && met["clean"] != 1716 || !free && (met["race"] == 0 || met["torn"] == 0) {
 			t.Errorf("%q: %v", guard, met)
@@ -203,15 +203,15 @@ func TestGuarded(t *testing.T) {
 // P16.2: two threads that take two locks in unlike orders come to a ring for some picks; in one order for none.
 func TestOrders(t *testing.T) {
 	for second, free := range map[string]bool{"lock k ; lock l ;": false, "lock l ; lock k ;": true} {
-		m := lowered(t, "lock l ; lock k ; thread a { lock l ; lock k ; unlock k ; unlock l ; } thread b { "+second+" unlock l ; unlock k ; }")
+		m := sample.Lowered("lock l ; lock k ; thread a { lock l ; lock k ; unlock k ; unlock l ; } thread b { " + second + " unlock l ; unlock k ; }")
 		met := seenBy(t, m, 5, 5)
 		if free && met["clean"] != 252 || !free && (met["ring"] == 0 || met["clean"] == 0) {
 			t.Errorf("%q: %v", second, met)
 		}
 	}
-	x := begun(t, lowered(t, "lock l ; thread a { unlock l ; } thread b { lock l ; } thread c { lock l ; unlock l ; unlock l ; }"))
+	x := sample.Begun(sample.Lowered("lock l ; thread a { unlock l ; } thread b { lock l ; } thread c { lock l ; unlock l ; unlock l ; }"))
 	x.Run(2, 2, 2, 1, 0)
-	if got := watch.Look(lowered(t, "thread a { }"), x.State()); !reflect.DeepEqual(got, api.Seen{Bad: []int{0, 2}}) {
+	if got := watch.Look(sample.Lowered("thread a { }"), x.State()); !reflect.DeepEqual(got, api.Seen{Bad: []int{0, 2}}) {
 		t.Error(got)
 	}
 }
