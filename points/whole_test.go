@@ -57,7 +57,7 @@ func (r run) hold(s api.State, thread int) {
 	if length >= 0 && (call.Regs[index] < 0 || call.Regs[index] >= call.Regs[length]) {
 		return
 	}
-	site := maker(s, call.Regs[register])
+	site := sample.Maker(s, call.Regs[register])
 	number := slices.Index(r.p.Sites, site)
 	if number < 0 || !slices.Contains(r.p.Regs[thread][call.Func][register], number) {
 		r.t.Fatalf("%q: thread %d names by %+v what was made at %+v (%d): %s", r.text, thread, o, site, number, told(r.p))
@@ -78,18 +78,6 @@ func named(o api.Op) (int, int, int) {
 		return o.A, o.B, o.C
 	}
 	return -1, -1, -1
-}
-
-// maker: who made, and where, the object that a word belongs to.
-func maker(s api.State, addr int) api.Site {
-	for thread, objects := range s.Objects {
-		for _, o := range objects {
-			if first := 1 + thread*64 + o.At; addr >= first && addr < first+o.Size {
-				return api.Site{Thread: thread, Func: o.Func, Op: o.Op}
-			}
-		}
-	}
-	return api.Site{Thread: -1}
 }
 
 // P17.2: programs by hand, whose objects go by globals, fields, calls and slices, in all orders of two threads or by turns.

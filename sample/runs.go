@@ -31,6 +31,18 @@ func Begun(m api.Module) *machine.Machine {
 	return x
 }
 
+// Maker: who made, and where, the object that a word of a machine's arenas belongs to; the thread -1, if it belongs to none.
+func Maker(s api.State, addr int) api.Site {
+	for thread, objects := range s.Objects {
+		for _, o := range objects {
+			if first := 1 + thread*api.Arena + o.At; addr >= first && addr < first+o.Size {
+				return api.Site{Thread: thread, Func: o.Func, Op: o.Op}
+			}
+		}
+	}
+	return api.Site{Thread: -1}
+}
+
 // Orders tells each row of picks by which two threads have so many ticks. A row is written over once the next one is told.
 func Orders(first, second int, each func(picks []int)) {
 	var more func(picks []int, a, b int)

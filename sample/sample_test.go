@@ -97,8 +97,8 @@ func TestMarked(t *testing.T) {
 	if text != "abc" || !slices.Equal(marks, []int{0, 2, 3, 3}) {
 		t.Error(text, marks)
 	}
-	want := []api.Diag{{At: 0, Code: api.ErrNone, Name: "x"}, {At: 0, Code: api.ErrKind, Name: "y"}, {At: 3, Code: api.ErrType}, {At: 3, Code: api.ErrLevel, Name: "z"}, {At: 3, Code: api.ErrLabel, Name: "z"}, {At: 3, Code: api.ErrOrder}}
-	if got := sample.Wanted("none x, kind y||type|level z, label z, order", marks); !slices.Equal(got, want) {
+	want := []api.Diag{{At: 0, Code: api.ErrNone, Name: "x"}, {At: 0, Code: api.ErrKind, Name: "y"}, {At: 3, Code: api.ErrType}, {At: 3, Code: api.ErrLevel, Name: "z"}, {At: 3, Code: api.ErrLabel, Name: "z"}, {At: 3, Code: api.ErrOrder}, {At: 3, Code: api.ErrRace, Name: "w"}}
+	if got := sample.Wanted("none x, kind y||type|level z, label z, order, race w", marks); !slices.Equal(got, want) {
 		t.Error(got)
 	}
 }
@@ -215,6 +215,17 @@ func TestBegun(t *testing.T) {
 			sample.Lowered(wrong)
 			t.Error("no panic", wrong)
 		}()
+	}
+}
+
+// An object's words belong to who made it, and where; the words around it to nobody.
+func TestMaker(t *testing.T) {
+	x := sample.Begun(sample.Lowered("struct n { v int ; w int ; } thread t { } thread u { var x * n = new n ; var s [ ] int = make ( 3 ) ; }"))
+	x.Run(1, 1, 1, 1)
+	for addr, want := range map[int]api.Site{1: {Thread: -1}, 64: {Thread: -1}, 65: {Thread: 1, Func: 1}, 66: {Thread: 1, Func: 1}, 67: {Thread: 1, Func: 1, Op: 3}, 69: {Thread: 1, Func: 1, Op: 3}, 70: {Thread: -1}, 0: {Thread: -1}, -3: {Thread: -1}} {
+		if got := sample.Maker(x.State(), addr); got != want {
+			t.Error(addr, got)
+		}
 	}
 }
 
