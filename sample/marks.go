@@ -35,6 +35,6 @@ func Wanted(told string, marks []int) []api.Diag {
 
 // code: the error of a word.
 func code(word string) api.Errno {
-	codes := map[string]api.Errno{"many": api.ErrMany, "twice": api.ErrTwice, "none": api.ErrNone, "kind": api.ErrKind, "type": api.ErrType, "return": api.ErrReturn, "level": api.ErrLevel, "order": api.ErrOrder, "label": api.ErrLabel, "race": api.ErrRace}
+	codes := map[string]api.Errno{"many": api.ErrMany, "twice": api.ErrTwice, "none": api.ErrNone, "kind": api.ErrKind, "type": api.ErrType, "return": api.ErrReturn, "level": api.ErrLevel, "order": api.ErrOrder, "label": api.ErrLabel, "held": api.ErrHeld, "race": api.ErrRace, "cycle": api.ErrCycle}
 	return codes[word]
 }

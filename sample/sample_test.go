@@ -97,8 +97,8 @@ func TestMarked(t *testing.T) {
 	if text != "abc" || !slices.Equal(marks, []int{0, 2, 3, 3}) {
 		t.Error(text, marks)
 	}
-	want := []api.Diag{{At: 0, Code: api.ErrNone, Name: "x"}, {At: 0, Code: api.ErrKind, Name: "y"}, {At: 3, Code: api.ErrType}, {At: 3, Code: api.ErrLevel, Name: "z"}, {At: 3, Code: api.ErrLabel, Name: "z"}, {At: 3, Code: api.ErrOrder}, {At: 3, Code: api.ErrRace, Name: "w"}}
-	if got := sample.Wanted("none x, kind y||type|level z, label z, order, race w", marks); !slices.Equal(got, want) {
+	want := []api.Diag{{At: 0, Code: api.ErrNone, Name: "x"}, {At: 0, Code: api.ErrKind, Name: "y"}, {At: 3, Code: api.ErrType}, {At: 3, Code: api.ErrLevel, Name: "z"}, {At: 3, Code: api.ErrLabel, Name: "z"}, {At: 3, Code: api.ErrOrder}, {At: 3, Code: api.ErrRace, Name: "w"}, {At: 3, Code: api.ErrHeld, Name: "u"}, {At: 3, Code: api.ErrCycle, Name: "v"}}
+	if got := sample.Wanted("none x, kind y||type|level z, label z, order, race w, held u, cycle v", marks); !slices.Equal(got, want) {
 		t.Error(got)
 	}
 }
